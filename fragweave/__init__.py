@@ -1,0 +1,1 @@
+"""Fragweave: packets in pieces, put together by tables."""

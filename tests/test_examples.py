@@ -1,0 +1,132 @@
+"""The document's examples, as they stand there, by the promises that they show, and those of the README."""
+
+import doctest
+import unittest
+
+from tests.helpers import check_example
+
+POINT_4 = (
+    """
+    >>> from fragweave.pieces import is_piece, is_row
+    >>> [is_piece((0, (5, None, 7), True)), is_piece((0, (), True)), is_piece((0, (-1,), True)), is_piece((True, (5,), True)), is_row(ROW), is_row(list(ROW))]
+    [True, False, False, False, True, False]
+    """,
+    """
+    >>> from fragweave.pieces import end_of, over, places_of, value_at
+    >>> [end_of((2, (5, None, 7), False)), places_of((2, (5, None, 7), False)), value_at((2, (5, None, 7), False), 4), over(ROW, 1), over(ROW, 7)]
+    [5, (2, 4), 7, (0, 1), ()]
+    """,
+    """
+    >>> from fragweave.pieces import stretched
+    >>> stretched(((0, (5, 6), False), (1, (None, 7), True)), (1, 2, 4, 5))
+    ((1, (5, 6, 6), False), (2, (None, None, 7), True))
+    """,
+    """
+    >>> from fragweave.rowtexts import parse_row, row_text
+    >>> [row_text(ROW), parse_row("3:9!"), parse_row("-")]
+    ['0:1,2 1:7,8 2:3!', ((3, (9,), True),), ()]
+    """,
+    """
+    >>> from fragweave.rowtexts import parse_row
+    >>> parse_row("0:1,2  1:7")
+    raises BadText(1)
+    """,
+)
+
+POINT_5 = (
+    """
+    >>> from fragweave.tables import entry_of, table_error
+    >>> [table_error(()), table_error((FIRST[0][:26],)), table_error((FIRST[0][:5] + (("old", 1),) + FIRST[0][6:],)), entry_of(BEGINS, 0, "<", ">", "=")]
+    [(None, None, 'table'), (0, None, 'state'), (0, 5, 'entry'), ('new', 0)]
+    """,
+    """
+    >>> from fragweave.tables import told_table
+    >>> [len(told_table("most")), told_table("cover")[0][3], told_table("cover")[0][13], told_table("ranked")[0][12]]
+    [3, ('new', 0), ('old', 0), ('new', 0)]
+    """,
+    """
+    >>> from fragweave.readertexts import parse_table, table_text
+    >>> [table_text(FIRST) == "o0" * 27, parse_table("o0" * 26 + "n0") == (FIRST[0][:26] + (("new", 0),),)]
+    [True, True]
+    """,
+    """
+    >>> from fragweave.readertexts import parse_table
+    >>> parse_table("o0o1" + "o0" * 25)
+    raises BadText(54)
+    """,
+)
+
+POINT_6 = (
+    """
+    >>> from fragweave.readers import Reader
+    >>> [Reader(FIRST)(ROW), Reader(LAST)(ROW), Reader(LAST)(ROW[:2]), Reader(FIRST, mark="least").mark]
+    [(1, 2, 8), (1, 7, 3), None, 'least']
+    """,
+    """
+    >>> from fragweave.readers import Reader
+    >>> Reader(FIRST, mark="next", when=0)
+    raises BadMark('next')
+    """,
+    """
+    >>> from fragweave.reading import end_that_counts, is_whole, read_moment
+    >>> from fragweave.readers import Reader
+    >>> EARLY = ((1, (6,), True), (0, (5,), True), (0, (7, 7), False))
+    >>> [end_that_counts(EARLY, "first"), end_that_counts(EARLY, "least"), is_whole(EARLY[:1], "first"), is_whole(EARLY, "last"), read_moment(Reader(LAST, when="early"), EARLY), read_moment(Reader(LAST), EARLY)]
+    [2, 1, False, True, 2, 3]
+    """,
+)
+
+SECTION_3 = (
+    """
+    >>> from fragweave.places import owner_at, steps_at, value_read
+    >>> TWICE = ((0, (5,), False), (0, (6,), False), (0, (6,), False), (0, (5,), True))
+    >>> [steps_at(VOTE, TWICE, 0), owner_at(VOTE, TWICE, 0), value_read(VOTE, TWICE, 0), value_read(VOTE, TWICE, 1)]
+    [((0, 0, 0), (1, 0, 1), (2, 2, 0), (3, 2, 1)), 2, 6, None]
+    """,
+    """
+    >>> from fragweave.readers import Reader
+    >>> from fragweave.reading import Reading
+    >>> reading = Reading(Reader(VOTE, when="early"))
+    >>> [reading.put((1, (6,), True)), reading.told, reading.put((0, (5, 9), False)), reading.told, reading.owners(), reading.states(), reading.back(), len(reading)]
+    [1, None, 2, (5, 6), (1, 0), (0, 1), (0, (5, 9), False), 1]
+    """,
+)
+
+POINT_8 = (
+    """
+    >>> from fragweave.classes import is_in
+    >>> [[is_in(ROW, rows) for rows in ("all", "nested", "stairs", "begins", "ends")], is_in(((0, (5, 5, 5), False), (1, (6,), True)), "nested")]
+    [[True, False, False, True, True], True]
+    """,
+)
+
+
+class Examples(unittest.TestCase):
+    def check_all(self, examples):
+        for text in examples:
+            with self.subTest(text=text):
+                check_example(self, text)
+
+    def test_point_4(self):
+        self.check_all(POINT_4)
+
+    def test_point_5(self):
+        self.check_all(POINT_5)
+
+    def test_point_6(self):
+        self.check_all(POINT_6)
+
+    def test_section_3(self):
+        self.check_all(SECTION_3)
+
+    def test_point_8(self):
+        self.check_all(POINT_8)
+
+    def test_readme(self):
+        failed, tried = doctest.testfile("../README.md")
+        self.assertEqual(failed, 0)
+        self.assertGreater(tried, 5)
+
+
+if __name__ == "__main__":
+    unittest.main()
