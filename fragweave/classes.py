@@ -4,6 +4,14 @@ from fragweave.errors import BadRows
 from fragweave.pieces import end_of, places_of
 
 CLASSES = ("all", "nested", "stairs", "begins", "ends")
+# The classes in which a row stays when its pieces change places.
+ORDERLESS = ("all", "nested", "stairs")
+
+
+def check_rows(rows, classes):
+    """Raise BadRows if any value is none of these words for classes."""
+    if rows not in classes:
+        raise BadRows(rows)
 
 
 def spans_at(row):
@@ -42,8 +50,7 @@ def ascends(numbers):
 
 def is_in(row, rows):
     """Return whether a row is in the class with this word."""
-    if rows not in CLASSES:
-        raise BadRows(rows)
+    check_rows(rows, CLASSES)
     if rows == "nested":
         return all_lie(row, is_nested)
     if rows == "stairs":

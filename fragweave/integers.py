@@ -11,6 +11,11 @@ def is_within(value, least, most):
     return is_integer(value) and least <= value <= most
 
 
+def is_place(value):
+    """Return whether any value is an integer from 0 on."""
+    return is_integer(value) and value >= 0
+
+
 def integer_read(word, most):
     """Return the integer from 0 to most that is written as this str, None if there is none."""
     if not word.isascii() or not word.isdigit():

@@ -2,29 +2,28 @@
 
 from fragweave.bounds import PIECES
 from fragweave.errors import BadPiece, Nothing, TooMany
-from fragweave.pieces import end_of, greatest_end, is_piece, places_of, value_at
+from fragweave.pieces import end_of, is_piece, places_of, value_at
 from fragweave.places import next_holding
 
+# Over so many places, at the most, it is kept what comes of a piece, and of so many pieces.
+FEW = 8
+KEPT = 250
 
-def next_end(end, piece, mark):
-    """Return the end that counts behind a piece, end being the one ahead of it."""
-    if not piece[2]:
-        return end
-    if end is None or mark == "last":
-        return end_of(piece)
+
+def end_counted(ends, mark):
+    """Return the one of some ends, in the order of coming, that counts, None if there is none."""
+    if not ends:
+        return None
     if mark == "least":
-        return min(end, end_of(piece))
+        return min(ends)
     if mark == "greatest":
-        return max(end, end_of(piece))
-    return end
+        return max(ends)
+    return ends[0] if mark == "first" else ends[-1]
 
 
 def end_that_counts(row, mark):
     """Return the end that counts of a row, None if no piece has last."""
-    end = None
-    for piece in row:
-        end = next_end(end, piece, mark)
-    return end
+    return end_counted([end_of(piece) for piece in row if piece[2]], mark)
 
 
 def next_gap(gap, holdings):
@@ -34,28 +33,51 @@ def next_gap(gap, holdings):
     return gap
 
 
+def first_covers(row, end):
+    """Return a list with, for each place below end, how many pieces have come when it is covered, None if never."""
+    covers = [None] * end
+    left = end
+    for count, (begin, values, _) in enumerate(row, start=1):
+        # All that is beyond this costs time for each piece, and most pieces come when all is covered.
+        if left == 0:
+            break
+        for place, item in zip(range(begin, end), values):
+            if item is not None and covers[place] is None:
+                covers[place] = count
+                left -= 1
+    return covers
+
+
 def is_whole(row, mark):
     """Return whether a row is whole."""
     end = end_that_counts(row, mark)
-    covers = [None] * greatest_end(row)
-    for number, piece in enumerate(row):
-        for place in places_of(piece):
-            covers[place] = number
-    return end is not None and end <= next_gap(0, covers)
+    return end is not None and None not in first_covers(row, end)
+
+
+def full_counts(covers):
+    """Return a list with, for each place, how many pieces have come when all places below it are covered.
+
+    It ends with the first place that is never covered.
+    """
+    counts = [0]
+    for count in covers:
+        if count is None:
+            break
+        counts.append(max(count, counts[-1]))
+    return counts
 
 
 def early_moment(row, mark):
     """Return how many pieces of a row have come when they are a whole row first, None if they never are."""
-    end = None
-    gap = 0
-    covers = [None] * greatest_end(row)
-    for number, piece in enumerate(row):
-        for place in places_of(piece):
-            covers[place] = number
-        end = next_end(end, piece, mark)
-        gap = next_gap(gap, covers)
-        if end is not None and end <= gap:
-            return number + 1
+    lasts = [(count, end_of(piece)) for count, piece in enumerate(row, start=1) if piece[2]]
+    counts = full_counts(first_covers(row, max([end for _, end in lasts], default=0)))
+    counted = None
+    # An end counts from its own piece on up to the next piece with last, or to the end of the row.
+    stops = [count for count, _ in lasts[1:]] + [len(row) + 1]
+    for (count, end), stop in zip(lasts, stops):
+        counted = end if counted is None else end_counted([counted, end], mark)
+        if counted < len(counts) and counts[counted] < stop:
+            return max(count, counts[counted])
     return None
 
 
@@ -66,13 +88,55 @@ def read_moment(reader, row):
     return len(row) if is_whole(row, reader.mark) else None
 
 
-def holdings_of(table, row):
-    """Return a list with the holding at each place below the greatest end of a row."""
-    holdings = [None] * greatest_end(row)
-    for number, piece in enumerate(row):
-        for place in places_of(piece):
-            holdings[place] = next_holding(table, row, holdings[place], number, place)
-    return holdings
+def many_holds(table, row, holds):
+    """Return the list of the holds of the least places behind the pieces of a row, holds being those ahead of it.
+
+    The hold of a place is (begin, end, value, state), of its owner, or None.
+    """
+    behind = list(holds)
+    for begin, values, _ in row:
+        end = begin + len(values)
+        for place, value in zip(range(begin, len(behind)), values):
+            if value is None:
+                continue
+            if behind[place] is None:
+                behind[place] = (begin, end, value, 0)
+                continue
+            own_begin, own_end, own_value, state = behind[place]
+            # This is what compared and entry_number do, written out since it is done for each place of each piece.
+            number = ((0 if begin < own_begin else 9 if begin == own_begin else 18)
+                      + (0 if end < own_end else 3 if end == own_end else 6)
+                      + (0 if value < own_value else 1 if value == own_value else 2))
+            who, following = table[state][number]
+            if who == "new":
+                behind[place] = (begin, end, value, following)
+            elif following != state:
+                behind[place] = (own_begin, own_end, own_value, following)
+    return behind
+
+
+def few_holds(table, row, end):
+    """Return the holds of the places below end behind a row.
+
+    Over few places the same holds and the same pieces come again and again, so it is kept what comes of them, as long
+    as they do.
+    """
+    found = [(None,) * end]
+    numbers = {found[0]: 0}
+    known = {}
+    here = 0
+    for at, piece in enumerate(row):
+        there = known.get((here, piece))
+        if there is None:
+            if len(known) == KEPT:
+                return many_holds(table, row[at:], found[here])
+            holds = tuple(many_holds(table, (piece,), found[here]))
+            there = numbers.setdefault(holds, len(found))
+            if there == len(found):
+                found.append(holds)
+            known[(here, piece)] = there
+        here = there
+    return found[here]
 
 
 def values_held(row, holdings, end):
@@ -86,7 +150,9 @@ def packet_read(reader, row):
     if moment is None:
         return None
     come = row[:moment]
-    return values_held(come, holdings_of(reader.table, come), end_that_counts(come, reader.mark))
+    end = end_that_counts(come, reader.mark)
+    holds = few_holds(reader.table, come, end) if end <= FEW else many_holds(reader.table, come, [None] * end)
+    return tuple([value for _, _, value, _ in holds])
 
 
 class Reading:
@@ -143,7 +209,8 @@ class Reading:
     def _next_moment(self, piece):
         """Return the moment behind the newest piece."""
         end, gap, packet = self._moments[-1]
-        end = next_end(end, piece, self._reader.mark)
+        if piece[2]:
+            end = end_counted([end_of(piece)] if end is None else [end, end_of(piece)], self._reader.mark)
         gap = next_gap(gap, self._holdings)
         # An early reader never reads a second time, and a late one is asked only when told is.
         if self._reader.when == "early" and packet is None and end is not None and end <= gap:

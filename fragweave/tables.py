@@ -42,6 +42,11 @@ def entry_number(begin, end, value):
     return 9 * begin + 3 * end + value
 
 
+def turned_number(number):
+    """Return the number of the entry for the contrary of each sign."""
+    return ENTRIES - 1 - number
+
+
 def entry_of(table, state, begin, end, value):
     """Return the entry of a state for three signs."""
     return table[state][entry_number(SIGNS.index(begin), SIGNS.index(end), SIGNS.index(value))]
@@ -110,6 +115,11 @@ def one_state(rule):
 def state_by_value(equal, other):
     """Return the state with one entry where the value is "=", and another one where it is not."""
     return (other, equal, other) * 9
+
+
+def first_table():
+    """Return the table "first", without a call of its rule: the equality of readers may call no rule."""
+    return ((("old", 0),) * ENTRIES,)
 
 
 def vote_table():

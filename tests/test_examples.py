@@ -100,6 +100,60 @@ POINT_8 = (
     """,
 )
 
+POINT_9 = (
+    """
+    >>> from fragweave.types import first_type, letters_of
+    >>> [first_type(2), first_type(1, rows="ends"), letters_of(first_type(2), rows="stairs"), len(letters_of(((0, 0), (0, 1), (0, 0), ())))]
+    [((0, 0), (0, 0), (0, 0), ()), ((0,), (0,), (0,), (True,)), ((0, 0, 0), (0, 0, 1), (0, 0, 2), (1, 1, 0), (1, 1, 1), (1, 1, 2), (2, 2, 0), (2, 2, 1), (2, 2, 2)), 45]
+    """,
+    """
+    >>> from fragweave.types import first_type, next_type
+    >>> [next_type((FIRST, LAST), first_type(2), (0, 1, 1)), next_type((FIRST, LAST), first_type(2), (0, 1, 0)), next_type((FIRST, BEGINS), first_type(2), (2, 0, 2))]
+    [((0, 0), (1, 0), (0, 0), ()), None, ((0, 0), (0, 0), (0, 0), ())]
+    """,
+    """
+    >>> from fragweave.types import is_type
+    >>> [is_type((FIRST, LAST), ((0, 0), (1, 0), (0, 0), ())), is_type((FIRST, LAST), ((0, 0), (1, 1), (0, 0), ())), is_type((FIRST,), ((1,), (0,), (0,), ()))]
+    [True, False, False]
+    """,
+)
+
+POINT_10 = (
+    """
+    >>> from fragweave.alike import alike_holds, are_alike, find_alike
+    >>> paper = find_alike(FIRST, VOTE)
+    >>> [find_alike(FIRST, FIRST), paper[0], len(paper[1]), are_alike(FIRST, BEGINS, rows="begins"), are_alike(FIRST, BEGINS), alike_holds(FIRST, BEGINS, ("unlike", ((1, (6,), False), (0, (5, 5), True)), 1)), alike_holds(FIRST, BEGINS, ("alike", ()))]
+    [('alike', (((0, 0), (0, 0), (0, 0), ()),)), 'unlike', 3, True, False, True, False]
+    """,
+)
+
+POINT_12 = (
+    """
+    >>> from fragweave.alike import unlike_row
+    >>> from fragweave.readers import Reader
+    >>> [unlike_row(Reader(FIRST), Reader(FIRST, when="early")), len(unlike_row(Reader(FIRST), Reader(FIRST, mark="least"))), len(unlike_row(Reader(VOTE), Reader(FIRST))), len(unlike_row(Reader(VOTE), Reader(VOTE, when="early")))]
+    [None, 2, 3, 3]
+    """,
+)
+
+POINT_13 = (
+    """
+    >>> from fragweave.orders import find_order, order_holds
+    >>> paper = find_order(FIRST)
+    >>> [paper[0], len(paper[1]), find_order(told_table("ranked")), order_holds(FIRST, ("bound", ((0, (5,), False), (0, (6,), False)), ((0, (6,), False), (0, (5,), False)), 0)), order_holds(FIRST, ("free", ()))]
+    ['bound', 2, ('free', (((0, 0), (0, 0), (0, 0), ()),)), True, False]
+    """,
+)
+
+POINT_14 = (
+    """
+    >>> from fragweave.twices import find_twice, twice_holds
+    >>> paper = find_twice(LAST)
+    >>> [find_twice(FIRST), paper[0], len(paper[1]), twice_holds(LAST, ("bound", ((0, (5,), False), (0, (6,), False)), 0, 2, 0)), twice_holds(LAST, ("bound", ((0, (5,), False), (0, (6,), False)), 0, 1, 0))]
+    [('free', (((0, 0), (0, 0), (0, 0), ()),)), 'bound', 2, True, False]
+    """,
+)
+
 
 class Examples(unittest.TestCase):
     def check_all(self, examples):
@@ -121,6 +175,21 @@ class Examples(unittest.TestCase):
 
     def test_point_8(self):
         self.check_all(POINT_8)
+
+    def test_point_9(self):
+        self.check_all(POINT_9)
+
+    def test_point_10(self):
+        self.check_all(POINT_10)
+
+    def test_point_12(self):
+        self.check_all(POINT_12)
+
+    def test_point_13(self):
+        self.check_all(POINT_13)
+
+    def test_point_14(self):
+        self.check_all(POINT_14)
 
     def test_readme(self):
         failed, tried = doctest.testfile("../README.md")

@@ -21,8 +21,12 @@ INTERFACE = {
     "places": "steps_at owner_at value_read",
     "reading": "end_that_counts is_whole read_moment Reading",
     "classes": "is_in",
+    "types": "first_type letters_of next_type is_type",
+    "alike": "are_alike find_alike alike_holds unlike_row",
+    "orders": "find_order order_holds",
+    "twices": "find_twice twice_holds",
 }
-METHODS = {"Reader": "table mark when", "Reading": "put back row told owners states copy"}
+METHODS = {"Reader": "parse table mark when", "Reading": "put back row told owners states copy"}
 
 STATEMENTS = (
     ast.Assign, ast.AugAssign, ast.AnnAssign, ast.If, ast.While, ast.For, ast.Return, ast.Break, ast.Continue, ast.Pass,
