@@ -64,14 +64,20 @@ def ranks_behind(ranks, place, takes):
     return ranked([place if new else 2 * rank + 1 for rank, new in zip(ranks, takes)])
 
 
+def tops_behind(shape, spot, takes, rows):
+    """Return the tops behind a new piece at this spot, takes telling which runs it is taken by."""
+    if rows not in TOP_SIDES:
+        return ()
+    side = TOP_SIDES[rows]
+    return tuple([new or (top and lie_of(spot[side], rank) == 1)
+                  for top, rank, new in zip(shape[2], shape[side], takes)])
+
+
 def shape_behind(shape, spot, takes, rows):
     """Return the shape behind a new piece at this spot, takes telling which runs it is taken by."""
-    begins, ends, tops = shape
-    if rows in TOP_SIDES:
-        side = TOP_SIDES[rows]
-        tops = tuple([new or (top and lie_of(spot[side], rank) == 1)
-                      for top, rank, new in zip(tops, shape[side], takes)])
-    return (ranks_behind(begins, spot[0], takes), ranks_behind(ends, spot[1], takes), tops)
+    begins, ends, _ = shape
+    return (ranks_behind(begins, spot[0], takes), ranks_behind(ends, spot[1], takes),
+            tops_behind(shape, spot, takes, rows))
 
 
 def first_shape(many, rows):

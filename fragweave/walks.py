@@ -6,23 +6,20 @@ behind so many pieces; the node is None where the runs then read unlike values.
 """
 
 from fragweave.tables import entry_number
-from fragweave.types import first_shape, is_type, lies_of, shape_behind, spots_of
-
-WORDS = ("old", "new")
+from fragweave.types import first_shape, is_type, lies_of, places_among, ranks_behind, spots_of, tops_behind
 
 
-def words_of(many):
-    """Return the list of all tuples of as many words of entries."""
-    words = [()]
+def takes_of(many):
+    """Return a list of (words, takes) for all words that the entries of so many runs may have."""
+    takes = [()]
     for _ in range(many):
-        words = [(*some, word) for some in words for word in WORDS]
-    return words
+        takes = [(*some, new) for some in takes for new in (False, True)]
+    return [(tuple(["new" if new else "old" for new in some]), some) for some in takes]
 
 
-def shapes_behind(shape, spot, rows):
-    """Return a dict from the words of the entries of all runs to the shape behind a new piece at this spot."""
-    return {words: shape_behind(shape, spot, [word == "new" for word in words], rows)
-            for words in words_of(len(shape[0]))}
+def ranks_at(ranks, takes):
+    """Return a list with, for each place among ranks, a dict from words to the ranks behind a new piece there."""
+    return [{words: ranks_behind(ranks, place, some) for words, some in takes} for place in places_among(ranks)]
 
 
 def moves_from(shape, rows):
@@ -32,10 +29,12 @@ def moves_from(shape, rows):
     the next shape, without those words with which the runs read unlike values.
     """
     moves = []
-    many = len(shape[0])
+    takes = takes_of(len(shape[0]))
+    begins, ends = ranks_at(shape[0], takes), ranks_at(shape[1], takes)
     for spot in spots_of(shape, rows):
-        behind = shapes_behind(shape, spot, rows)
-        alike = {(word,) * many: behind[(word,) * many] for word in WORDS}
+        behind = {words: (begins[spot[0]][words], ends[spot[1]][words], tops_behind(shape, spot, some, rows))
+                  for words, some in takes}
+        alike = {words: behind[words] for words, some in takes if all(some) or not any(some)}
         lies = lies_of(spot, shape)
         for value in range(3):
             numbers = [entry_number(*lie, value) for lie in lies]

@@ -3,6 +3,9 @@
 from fragweave.tables import entry_of
 from tests.helpers import plain_value, sign_of
 
+# Words that papers have, also each in the place of another one.
+WORDS = ("pass", "leave", "serves", "fails", "true", "less", "greater", "from", "never", "covers", "bare")
+
 
 def pieces_over(place, *, values=3):
     """Pieces that cover a place, with each order of begins, ends and values that place + 1 pieces can have."""
@@ -143,7 +146,7 @@ def changed(value):
     elif isinstance(value, int):
         found += [value + 1, value - 1, bool(value), str(value), 10 ** 59, -value]
     elif isinstance(value, str):
-        found += ["", value + " ", value.upper(), 0]
+        found += ["", value + " ", value.upper(), 0, *[word for word in WORDS if word != value]]
     elif isinstance(value, tuple):
         found += [list(value), value + value[-1:], value[:-1], value[1:], value[::-1], value + (None,)]
         for at, part in enumerate(value):

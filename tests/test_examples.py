@@ -154,6 +154,51 @@ POINT_14 = (
     """,
 )
 
+POINT_16 = (
+    """
+    >>> from fragweave.tidy import find_tidy, tidy_holds
+    >>> from fragweave.types import first_type
+    >>> paper = ("serves", ((first_type(2), ("leave",) * 27),))
+    >>> [find_tidy(FIRST, LAST)[0], tidy_holds(FIRST, (LAST,), paper), find_tidy(LAST, FIRST)[0], tidy_holds(LAST, (FIRST,), ("fails", ((first_type(2), 0, (0, 0, 0)),)))]
+    ['serves', True, 'fails', True]
+    """,
+    """
+    >>> from fragweave.tidiers import Tidier
+    >>> tidier = Tidier(FIRST, LAST, VOTE)
+    >>> [tidier.put((0, (5, 6), False)), tidier.put((1, (7, 8), True)), tidier.passed, len(tidier)]
+    [(0, (5, 6), False), (1, (None, 8), True), ((0, (5, 6), False), (1, (None, 8), True)), 2]
+    """,
+    """
+    >>> from fragweave.tidiers import Tidier
+    >>> Tidier(LAST, FIRST)
+    raises Fails()
+    """,
+)
+
+POINT_17 = (
+    """
+    >>> from fragweave.rights import price_of, right_from, wrong_row
+    >>> [wrong_row(FIRST, 0, 0), right_from(FIRST, 0), right_from(FIRST, 1), [right_from(MOST, k) for k in range(3)], price_of(MOST, 2), price_of(VOTE, 5)]
+    [None, 0, None, [0, 2, None], 2, 2]
+    """,
+)
+
+POINT_18 = (
+    """
+    >>> from fragweave.rights import find_right, right_holds
+    >>> [find_right(FIRST, 0)[:2], find_right(LAST, 1)[0], right_holds(FIRST, 1, ("never", "less", (), ((1, 1, "true", 2),), ())), right_holds(FIRST, 0, ("from", 0, ((0, "true", 0, None),), None, None, None))]
+    [('from', 0), 'never', True, True]
+    """,
+)
+
+POINT_19 = (
+    """
+    >>> from fragweave.covers import find_cover
+    >>> [find_cover(FIRST, LAST, 0)[0], find_cover(LAST, FIRST, 1)[0], len(find_cover(LAST, FIRST, 1)[1]), find_cover(FIRST, MOST, 1)[0], len(find_cover(FIRST, MOST, 1)[1])]
+    ['covers', 'bare', 2, 'bare', 3]
+    """,
+)
+
 
 class Examples(unittest.TestCase):
     def check_all(self, examples):
@@ -190,6 +235,18 @@ class Examples(unittest.TestCase):
 
     def test_point_14(self):
         self.check_all(POINT_14)
+
+    def test_point_16(self):
+        self.check_all(POINT_16)
+
+    def test_point_17(self):
+        self.check_all(POINT_17)
+
+    def test_point_18(self):
+        self.check_all(POINT_18)
+
+    def test_point_19(self):
+        self.check_all(POINT_19)
 
     def test_readme(self):
         failed, tried = doctest.testfile("../README.md")

@@ -25,8 +25,12 @@ INTERFACE = {
     "alike": "are_alike find_alike alike_holds unlike_row",
     "orders": "find_order order_holds",
     "twices": "find_twice twice_holds",
+    "tidy": "find_tidy tidy_holds",
+    "tidiers": "Tidier",
+    "rights": "wrong_row right_from price_of find_right right_holds",
+    "covers": "find_cover cover_holds",
 }
-METHODS = {"Reader": "parse table mark when", "Reading": "put back row told owners states copy"}
+METHODS = {"Reader": "parse table mark when", "Tidier": "put back row passed copy", "Reading": "put back row told owners states copy"}
 
 STATEMENTS = (
     ast.Assign, ast.AugAssign, ast.AnnAssign, ast.If, ast.While, ast.For, ast.Return, ast.Break, ast.Continue, ast.Pass,
