@@ -105,7 +105,8 @@ def lay_steps(layout, tables, owners, steps):
     """
     for (states, shape), letter in steps:
         number = layout.lay_letter(owners, letter)
-        asked = [entry_number(*lie, letter[2]) for lie in lies_of(letter, shape)]
+        *spot, value = letter
+        asked = [entry_number(*lie, value) for lie in lies_of(spot, shape)]
         entries = [table[state][at] for table, state, at in zip(tables, states, asked)]
         owners = [number if who == "new" else owner for (who, _), owner in zip(entries, owners)]
     return owners

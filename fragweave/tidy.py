@@ -18,11 +18,19 @@ FAILURE = (None, None)
 
 def check_states(tables):
     """Raise TooMany if three tables have too many states."""
-    product = 1
+    states = 1
     for table in tables:
-        product = product * len(table)
-    if len(tables) == 3 and product > MOST_STATES:
+        states = states * len(table)
+    if len(tables) == 3 and states > MOST_STATES:
         raise TooMany(MOST_STATES)
+
+
+def moves_at(moves, node):
+    """Return what moves_from returns for the shape of a node; moves keeps it for each shape that is asked."""
+    shape = node[1]
+    if shape not in moves:
+        moves[shape] = moves_from(shape, "all")
+    return moves[shape]
 
 
 def behind_choices(tables, node, move):
@@ -50,10 +58,7 @@ def explored(tables):
     pairs = []
     while len(pairs) < len(nodes):
         node = nodes[len(pairs)]
-        shape = node[1]
-        if shape not in moves:
-            moves[shape] = moves_from(shape, "all")
-        choices = [behind_choices(tables, node, move) for move in moves[shape]]
+        choices = [behind_choices(tables, node, move) for move in moves_at(moves, node)]
         if FAILURE in choices:
             # Every tidier fails here at once, so that it does not matter what follows.
             choices = [pair if pair == FAILURE else (node, node) for pair in choices]
@@ -110,7 +115,8 @@ def reached_by(chosen):
     reached = {0: True}
     left = [0]
     while left:
-        for follower in chosen[left.pop()]:
+        number = left.pop()
+        for follower in chosen[number]:
             if follower not in reached:
                 reached[follower] = True
                 left.append(follower)
@@ -162,25 +168,24 @@ def are_rows(tables, value, size):
     return is_ascending(types) and type_of(first_node(len(tables), "all")) in types
 
 
-def moves_of_rows(rows):
-    """Return a list of (node, moves) for the types of some rows."""
-    nodes = [node_of(row[0]) for row in rows]
-    moves = {shape: None for _, shape in nodes}
-    for shape in list(moves):
-        moves[shape] = moves_from(shape, "all")
-    return [(node, moves[node[1]]) for node in nodes]
+def are_choices(value):
+    """Return whether any value is a tuple of choices."""
+    return isinstance(value, tuple) and all([choice in CHOICES for choice in value])
 
 
 def serves_holds(tables, rows):
     """Return whether any value is the rows of a paper with the word "serves"."""
-    if not are_rows(tables, rows, 2):
+    if not are_rows(tables, rows, 2) or not all([are_choices(choices) for _, choices in rows]):
         return False
     known = {node_of(start): True for start, _ in rows}
-    for (node, moves), (_, choices) in zip(moves_of_rows(rows), rows):
-        if not isinstance(choices, tuple) or len(choices) != len(moves):
+    moves = {}
+    for start, choices in rows:
+        node = node_of(start)
+        possible = moves_at(moves, node)
+        if len(choices) != len(possible):
             return False
-        for move, choice in zip(moves, choices):
-            if choice not in CHOICES or behind_choices(tables, node, move)[CHOICES.index(choice)] not in known:
+        for move, choice in zip(possible, choices):
+            if behind_choices(tables, node, move)[CHOICES.index(choice)] not in known:
                 return False
     return True
 
@@ -197,8 +202,10 @@ def fails_holds(tables, rows):
     if not all([is_place(rank) and is_letter(letter) for _, rank, letter in rows]):
         return False
     ranks = {node_of(start): rank for start, rank, _ in rows}
-    for (node, moves), (_, rank, letter) in zip(moves_of_rows(rows), rows):
-        asked = [move for move in moves if move[0] == letter]
+    moves = {}
+    for start, rank, letter in rows:
+        node = node_of(start)
+        asked = [move for move in moves_at(moves, node) if move[0] == letter]
         if not asked:
             return False
         for follower in behind_choices(tables, node, asked[0]):

@@ -93,6 +93,16 @@ def own_methods():
     return {method.name for _, made in nodes(ast.ClassDef) for method in made.body if isinstance(method, ast.FunctionDef)}
 
 
+def parents(tree):
+    """A dict from each node of a tree to the node above it."""
+    return {child: node for node in ast.walk(tree) for child in ast.iter_child_nodes(node)}
+
+
+def called_name(node):
+    """The name that is called by a node, None if there is none."""
+    return node.func.id if isinstance(node, ast.Call) and isinstance(node.func, ast.Name) else None
+
+
 class Interface(unittest.TestCase):
     def test_each_name_is_defined_in_its_file(self):
         for name, words in INTERFACE.items():
@@ -189,6 +199,34 @@ class Rules(unittest.TestCase):
             self.fail((name, ast.dump(node)[:80]))
         for name, node in nodes(ast.Constant):
             self.assertNotIsInstance(node.value, (float, complex), name)
+
+    def test_what_is_iterated_at_once(self):
+        takers = set("list tuple dict sorted sum any all enumerate zip min max".split())
+        for name, tree in TREES.items():
+            above = parents(tree)
+            for node in ast.walk(tree):
+                if called_name(node) in ("range", "zip", "enumerate", "reversed"):
+                    parent = above[node]
+                    at_once = isinstance(parent, (ast.For, ast.comprehension)) and parent.iter is node
+                    self.assertTrue(at_once or called_name(parent) in takers, (name, node.lineno))
+
+    def test_sets(self):
+        for name, tree in TREES.items():
+            above = parents(tree)
+            for node in ast.walk(tree):
+                if isinstance(node, (ast.Set, ast.SetComp)) or called_name(node) in ("set", "frozenset"):
+                    parent = above[node]
+                    told = called_name(parent) in ("sorted", "len") or isinstance(parent, (ast.Compare, ast.Assign))
+                    self.assertTrue(told, (name, node.lineno))
+
+    def test_stars_in_calls(self):
+        for name, call in nodes(ast.Call):
+            starred = [part.value for part in call.args if isinstance(part, ast.Starred)]
+            for part in starred:
+                self.assertIsInstance(part, (ast.Name, ast.List, ast.Tuple), (name, call.lineno))
+            if starred:
+                for part in [one for one in call.args if not isinstance(one, ast.Starred)]:
+                    self.assertIsInstance(part, (ast.Name, ast.Constant), (name, call.lineno))
 
     def test_words(self):
         for name, tree in TREES.items():
