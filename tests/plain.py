@@ -216,3 +216,35 @@ def plain_closure(tables, types, rows):
 def shuffled(source, table, states):
     """A table that takes the same pieces as one with one state, in any of some states."""
     return tuple(tuple((who, source.randrange(states)) for who, _ in table[0]) for _ in range(states))
+
+
+def slow_table(source):
+    """A table that reads another value only behind some pieces, most of which it does not take."""
+    count = source.choice((3, 4, 5, 6))
+    states = [[("old", state)] * 27 for state in range(count)]
+    for state, entries in enumerate(states):
+        for _ in range(source.randint(1, 4)):
+            entries[source.randrange(27)] = ("old", min(state + 1, count - 1))
+        for _ in range(source.randint(0, 4)):
+            entries[source.randrange(27)] = ("old", source.randrange(state + 1))
+        for _ in range(source.randint(0, 3)):
+            at = source.randrange(1, 27, 3)
+            entries[at] = ("new", entries[at][1])
+    for _ in range(source.randint(1, 3)):
+        states[-1][source.randrange(27)] = ("new", source.randrange(count))
+    return tuple(tuple(entries) for entries in states)
+
+
+def table_of(*states):
+    """The table with these entries by their numbers, written like "n1", all others being ("old", its own state)."""
+    made = []
+    for state, words in enumerate(states):
+        entries = [words.get(at, f"o{state}") for at in range(27)]
+        made.append(tuple(("new" if word[0] == "n" else "old", int(word[1])) for word in entries))
+    return tuple(made)
+
+
+def by_begin(**words):
+    """The entries with these words for the begins "less", "equal" and "greater"."""
+    return {at: words[side] for number, side in enumerate(("less", "equal", "greater")) if side in words
+            for at in range(9 * number, 9 * number + 9)}

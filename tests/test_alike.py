@@ -12,7 +12,7 @@ from fragweave.places import value_read
 from fragweave.tables import told_table
 from tests.helpers import CLASSES, NAMES, ROW, any_values, random_table
 from tests.plain import (changed, fits, one_entry_changed, other_form, pieces_over, plain_closed, plain_closure,
-                         plain_step, some_changed)
+                         plain_step, slow_table, some_changed)
 
 FIRST = told_table("first")
 LAST = told_table("last")
@@ -95,6 +95,16 @@ class FindAlike(unittest.TestCase):
         for _ in range(40):
             for rows in CLASSES:
                 self.check_paper(random_table(source), random_table(source), rows)
+
+    def test_slow_tables(self):
+        source = random.Random(52)
+        counts = []
+        for _ in range(40):
+            table = slow_table(source)
+            for other in (FIRST, slow_table(source), one_entry_changed(source, table)):
+                for rows in CLASSES:
+                    counts.append(len(self.check_paper(table, other, rows)[1]))
+        self.assertGreater(sum(count > 4 for count in counts), 50)
 
     def test_other_forms(self):
         source = random.Random(45)

@@ -13,7 +13,7 @@ from fragweave.places import value_read
 from fragweave.tables import entry_of, told_table
 from tests.helpers import NAMES, any_values, plain_value, random_table, sign_of
 from tests.plain import (changed, one_entry_changed, other_form, pieces_over, plain_ranks, plain_read, plain_step,
-                         some_changed)
+                         slow_table, some_changed)
 
 FIRST = told_table("first")
 LAST = told_table("last")
@@ -174,6 +174,16 @@ class FindCover(unittest.TestCase):
         for _ in range(60):
             for false in (0, 1, FALSE):
                 self.check_paper(random_table(source), random_table(source), false)
+
+    def test_slow_tables(self):
+        source = random.Random(126)
+        counts = []
+        for _ in range(60):
+            table = slow_table(source)
+            for other in (FIRST, slow_table(source), one_entry_changed(source, table)):
+                paper = self.check_paper(table, other, 2)
+                counts.append(len(paper[1]) if paper[0] == "bare" else 0)
+        self.assertGreater(sum(count > 4 for count in counts), 15)
 
     def test_the_fewest_types(self):
         source = random.Random(122)

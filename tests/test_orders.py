@@ -15,7 +15,7 @@ from fragweave.readers import Reader
 from fragweave.tables import told_table
 from tests.helpers import MARKS, NAMES, any_values, random_row, random_table
 from tests.plain import (fits, one_entry_changed, other_form, pieces_over, plain_closed, plain_closure, plain_read,
-                         plain_step, rows_over, shuffled, some_changed, span_of, type_between)
+                         plain_step, rows_over, shuffled, slow_table, some_changed, span_of, type_between)
 
 FIRST = told_table("first")
 LAST = told_table("last")
@@ -131,6 +131,17 @@ class FindOrder(unittest.TestCase):
         paper = self.check_paper(late, "all")
         self.assertEqual((paper[0], len(paper[1])), ("bound", 3))
         self.assertIsNone(fewest_bound(late, "all", 2))
+
+    def test_slow_tables(self):
+        source = random.Random(77)
+        for _ in range(40):
+            table = slow_table(source)
+            count = min(len(table), 5)
+            low = (RANKED[0][:13] + (("old", 1),) + RANKED[0][14:], *[
+                tuple((who, min(following + 1, count)) for who, following in state) for state in table[:count]])
+            for rows in CLASSES:
+                self.check_paper(table, rows)
+                self.check_paper(low, rows)
 
     def test_random_tables(self):
         source = random.Random(72)

@@ -13,7 +13,7 @@ from fragweave.readers import Reader
 from fragweave.reading import read_moment
 from fragweave.tables import told_table
 from tests.helpers import MARKS, NAMES, ROW, any_values, plain_packet, random_row, random_table
-from tests.plain import one_entry_changed, other_form
+from tests.plain import by_begin, one_entry_changed, other_form, slow_table, table_of
 
 FIRST = told_table("first")
 LAST = told_table("last")
@@ -160,14 +160,25 @@ class UnlikeRow(unittest.TestCase):
 
     def test_a_piece_more_only_where_it_is_needed(self):
         """An owner may be passed by a piece that begins ahead of it, if some other piece begins there, too."""
-        alone = self.table([{0: "n0"}])
-        behind = self.table([{0: "o1"}, {0: "n0", 1: "n0", 2: "n0"}])
-        twice = self.table([{0: "o1"}, {0: "n0"}])
-        equal = self.table([{0: "n1"}, {0: "n1", 1: "n1"}])
-        late = self.table([{1: "o1", 2: "o1"}, {0: "n0"}])
+        alone = table_of(by_begin(less="n0"))
+        behind = table_of(by_begin(less="o1"), by_begin(less="n0", equal="n0", greater="n0"))
+        twice = table_of(by_begin(less="o1"), by_begin(less="n0"))
+        equal = table_of(by_begin(less="n1"), by_begin(less="n1", equal="n1"))
+        late = table_of(by_begin(equal="o1", greater="o1"), by_begin(less="n0"))
         for table, count in ((alone, 3), (behind, 3), (twice, 3), (equal, 3), (late, 4)):
             self.assertEqual(self.check(Reader(table), Reader(table, when="early")), count)
             self.check_fewest(table, count)
+        # An equal value is taken that begins later, then a piece between the first two: its owner is not the first one.
+        later = table_of({19: "n1", 22: "n1", 25: "n1"}, by_begin(less="n1"))
+        self.assertEqual(self.check(Reader(later), Reader(later, when="early")), 3)
+        self.check_fewest(later, 3)
+        # The same with a piece of an equal value that begins just with the first one, or ends elsewhere.
+        for taken in ((10, 13, 16), (10,), (22,), (25,), (1,)):
+            other = table_of({at: "n1" for at in taken}, by_begin(less="n1"))
+            self.check(Reader(other), Reader(other, when="early"))
+        # Two such pieces one behind the other, and then one that begins with the owner.
+        other = table_of({22: "n1"}, {22: "n2"}, by_begin(equal="n2"))
+        self.assertEqual(self.check(Reader(other), Reader(other, when="early")), 4)
         for table, other, count in ((FIRST, alone, 2), (alone, FIRST, 2), (twice, FIRST, 3), (FIRST, twice, 3)):
             self.assertEqual(self.check(Reader(table), Reader(other, when="early")), count)
 
@@ -178,14 +189,6 @@ class UnlikeRow(unittest.TestCase):
         found = [many for many in range(count + 1) if any(
             Reader(table)(row) != Reader(table, when="early")(row) for row in product(pieces, repeat=many))]
         self.assertEqual(found, [count])
-
-    def table(self, states):
-        """The table with these entries where the begin is "<", "=" or ">", all others being ("old", its state)."""
-        made = []
-        for state, words in enumerate(states):
-            entries = [words.get(at // 9, f"o{state}") for at in range(27)]
-            made.append(tuple(("new" if word[0] == "n" else "old", int(word[1])) for word in entries))
-        return tuple(made)
 
     def test_told_tables(self):
         for one, other in product(NAMES, repeat=2):
@@ -200,6 +203,14 @@ class UnlikeRow(unittest.TestCase):
             other = one_entry_changed(source, other_form(table)) if source.random() < 0.5 else random_table(source)
             mark, when, other_when = source.choice(MARKS), source.choice(WHENS), source.choice(WHENS)
             self.check(Reader(table, mark=mark, when=when), Reader(other, mark=mark, when=other_when))
+
+    def test_slow_tables(self):
+        source = random.Random(67)
+        for _ in range(60):
+            table = slow_table(source)
+            for other in (FIRST, other_form(table), slow_table(source), one_entry_changed(source, table)):
+                for when, other_when in product(WHENS, WHENS):
+                    self.check(Reader(table, when=when), Reader(other, when=other_when))
 
     def test_the_fewest_pieces(self):
         """No row with fewer pieces, among all with few places and values, is read unlike."""

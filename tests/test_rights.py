@@ -10,10 +10,10 @@ from fragweave.bounds import FALSE, TRUE
 from fragweave.errors import BadCount
 from fragweave.pieces import is_row, places_of
 from fragweave.places import value_read
-from fragweave.rights import find_right, price_of, right_from, right_holds, wrong_row
+from fragweave.rights import find_right, laid_moves, price_of, right_from, right_holds, wrong_row
 from fragweave.tables import entry_of, told_table
 from tests.helpers import NAMES, SIGNS, any_values, plain_value, random_table
-from tests.plain import changed, one_entry_changed, other_form, pieces_over, plain_read, plain_step, some_changed
+from tests.plain import changed, one_entry_changed, other_form, pieces_over, plain_read, plain_step, slow_table, some_changed
 
 FIRST = told_table("first")
 LAST = told_table("last")
@@ -261,12 +261,54 @@ class WrongRow(unittest.TestCase):
                  (("old", 1),) * 27)
         self.check(table, 1, TRUE)
 
+    def test_slow_tables(self):
+        source = random.Random(119)
+        for _ in range(60):
+            table = slow_table(source)
+            for false, true in ((1, 0), (1, 3), (2, 6), (FALSE, 12)):
+                self.check(table, false, true)
+                self.assertIs(right_holds(table, false, find_right(table, false)), True)
+
     def test_none_where_the_table_is_right(self):
         for table in (FIRST, LAST, MOST):
             self.assertIsNone(wrong_row(table, 0, 0))
         self.assertIsNone(wrong_row(MOST, 1, 2))
         self.assertIsNone(wrong_row(counter(6), 2, 11))
         self.assertEqual(self.check(counter(6), 2, 10), 12)
+
+
+class LaidMoves(unittest.TestCase):
+    def test_rows_of_any_moves(self):
+        """Each piece lies to the owner and to the value that was sent as its move tells."""
+        source = random.Random(118)
+        seen = set()
+        for _ in range(300):
+            table = random_table(source, states=source.randint(1, 3))
+            kind = source.choice(KINDS)
+            state, owner, moves = 0, kind, []
+            for _ in range(source.randint(0, 6)):
+                move, state, following = source.choice(list(plain_moves(table, state, owner)))
+                seen.add((owner, *move[2:]))
+                moves.append(move)
+                owner = following
+            self.check(table, kind, moves, state, owner)
+        self.assertEqual(len(seen), sum(len(plain_values(kind, owner)) for kind in KINDS for owner in KINDS))
+
+    def check(self, table, kind, moves, state, owner):
+        row, place, value = laid_moves(table, kind, moves)
+        self.assertTrue(is_row(row) and len(row) == len(moves) + 1)
+        self.assertEqual([self.kind_of(piece, value) for piece in row], [kind, *[move[2] for move in moves]])
+        holding = None
+        for piece, move in zip(row, [None, *moves]):
+            if move is not None:
+                lies = [(piece[0], holding[0][0]), (piece[0] + len(piece[1]), holding[0][0] + len(holding[0][1])),
+                        (piece[1][0], holding[0][1][0])]
+                self.assertEqual([(one > other) - (one < other) + 1 for one, other in lies], [*move[:2], move[3]])
+            holding = plain_step(table, holding, piece, place)
+        self.assertEqual((holding[1], self.kind_of(holding[0], value)), (state, owner))
+
+    def kind_of(self, piece, value):
+        return "true" if piece[1][0] == value else "less" if piece[1][0] < value else "greater"
 
 
 class FindRight(unittest.TestCase):

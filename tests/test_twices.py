@@ -13,8 +13,8 @@ from fragweave.readers import Reader
 from fragweave.tables import told_table
 from fragweave.twices import find_twice, twice_holds
 from tests.helpers import MARKS, NAMES, any_values, random_row, random_table
-from tests.plain import (fits, one_entry_changed, other_form, pieces_over, plain_closed, plain_closure, plain_read,
-                         plain_step, rows_over, shuffled, some_changed, span_of, type_between)
+from tests.plain import (by_begin, fits, one_entry_changed, other_form, pieces_over, plain_closed, plain_closure, plain_read,
+                         plain_step, rows_over, shuffled, slow_table, some_changed, span_of, table_of, type_between)
 
 FIRST = told_table("first")
 LAST = told_table("last")
@@ -132,6 +132,25 @@ class FindTwice(unittest.TestCase):
         for rows in CLASSES:
             paper = self.check_paper(back, rows)
             self.assertEqual((paper[0], len(paper[1])), ("bound", 2))
+
+    def test_slow_tables(self):
+        source = random.Random(87)
+        counts = []
+        for _ in range(40):
+            table = slow_table(source)
+            for rows in CLASSES:
+                counts.append(len(self.check_paper(table, rows)[1]))
+        self.assertGreater(sum(count > 3 for count in counts), 20)
+
+    def test_the_twin_may_be_any_piece(self):
+        """Here only the third piece counts again: a second one that begins so early leads to no other state."""
+        third = table_of(by_begin(less="o3", greater="o1"), by_begin(less="o2"), by_begin(less="n2"), {})
+        # And here a second one that owns nothing, behind a third one that begins later than the owner.
+        second = table_of(by_begin(less="o1"), by_begin(greater="o2"), by_begin(less="n2"))
+        for table, twin in ((third, 2), (second, 1)):
+            for rows in CLASSES:
+                paper = self.check_paper(table, rows)
+                self.assertEqual((paper[0], len(paper[1]), paper[2]), ("bound", 3, twin))
 
     def test_random_tables(self):
         source = random.Random(82)
