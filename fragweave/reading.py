@@ -5,9 +5,10 @@ from fragweave.errors import BadPiece, Nothing, TooMany
 from fragweave.pieces import end_of, is_piece, places_of, value_at
 from fragweave.places import next_holding
 
-# Over so many places, at the most, it is kept what comes of a piece, and of so many pieces.
+# Over so many places, at the most, it is kept what comes of a piece, as long as hardly more than every fourth piece
+# brings something new.
 FEW = 8
-KEPT = 250
+KEPT = 200
 
 
 def end_counted(ends, mark):
@@ -41,8 +42,12 @@ def first_covers(row, end):
         # All that is beyond this costs time for each piece, and most pieces come when all is covered.
         if left == 0:
             break
-        for place, item in zip(range(begin, end), values):
-            if item is not None and covers[place] is None:
+        if begin >= end:
+            continue
+        place = begin - 1
+        for item in values[:end - begin]:
+            place += 1
+            if covers[place] is None and item is not None:
                 covers[place] = count
                 left -= 1
     return covers
@@ -70,12 +75,18 @@ def full_counts(covers):
 def early_moment(row, mark):
     """Return how many pieces of a row have come when they are a whole row first, None if they never are."""
     lasts = [(count, end_of(piece)) for count, piece in enumerate(row, start=1) if piece[2]]
-    counts = full_counts(first_covers(row, max([end for _, end in lasts], default=0)))
-    counted = None
+    if not lasts:
+        return None
+    # Mostly the first end is enough, and then the places behind it need not be looked at.
+    counted = reach = lasts[0][1]
+    counts = full_counts(first_covers(row, reach))
     # An end counts from its own piece on up to the next piece with last, or to the end of the row.
     stops = [count for count, _ in lasts[1:]] + [len(row) + 1]
     for (count, end), stop in zip(lasts, stops):
-        counted = end if counted is None else end_counted([counted, end], mark)
+        counted = end_counted([counted, end], mark)
+        if counted > reach:
+            reach = max([other for _, other in lasts])
+            counts = full_counts(first_covers(row, reach))
         if counted < len(counts) and counts[counted] < stop:
             return max(count, counts[counted])
     return None
@@ -94,15 +105,21 @@ def many_holds(table, row, holds):
     The hold of a place is (begin, end, value, state), of its owner, or None.
     """
     behind = list(holds)
+    size = len(behind)
     for begin, values, _ in row:
+        if begin >= size:
+            continue
         end = begin + len(values)
-        for place, value in zip(range(begin, len(behind)), values):
+        place = begin - 1
+        for value in values[:size - begin]:
+            place += 1
             if value is None:
                 continue
-            if behind[place] is None:
+            hold = behind[place]
+            if hold is None:
                 behind[place] = (begin, end, value, 0)
                 continue
-            own_begin, own_end, own_value, state = behind[place]
+            own_begin, own_end, own_value, state = hold
             # This is what compared and entry_number do, written out since it is done for each place of each piece.
             number = ((0 if begin < own_begin else 9 if begin == own_begin else 18)
                       + (0 if end < own_end else 3 if end == own_end else 6)
@@ -128,7 +145,7 @@ def few_holds(table, row, end):
     for at, piece in enumerate(row):
         there = known.get((here, piece))
         if there is None:
-            if len(known) == KEPT:
+            if len(known) > KEPT + at // 4:
                 return many_holds(table, row[at:], found[here])
             holds = tuple(many_holds(table, (piece,), found[here]))
             there = numbers.setdefault(holds, len(found))
