@@ -5,6 +5,8 @@ from fragweave.errors import NoTable
 from fragweave.integers import is_within
 
 SIGNS = ("<", "=", ">")
+# The number of each sign, looked up here since an operator may not search for it.
+LIES = {"<": 0, "=": 1, ">": 2}
 ENTRIES = 27
 
 
@@ -49,7 +51,7 @@ def turned_number(number):
 
 def entry_of(table, state, begin, end, value):
     """Return the entry of a state for three signs."""
-    return table[state][entry_number(SIGNS.index(begin), SIGNS.index(end), SIGNS.index(value))]
+    return table[state][entry_number(LIES[begin], LIES[end], LIES[value])]
 
 
 def takes_never(begin, end, value):

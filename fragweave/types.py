@@ -19,8 +19,8 @@ STAIRS_LIES = ((1, 1), (0, 0), (2, 2))
 
 def ranked(numbers):
     """Return the tuple of the ranks of some numbers."""
-    steps = sorted(set(numbers))
-    return tuple([steps.index(number) for number in numbers])
+    ranks = {number: rank for rank, number in enumerate(sorted(set(numbers)))}
+    return tuple([ranks[number] for number in numbers])
 
 
 def lie_of(place, rank):
