@@ -22,6 +22,13 @@ def end_counted(ends, mark):
     return ends[0] if mark == "first" else ends[-1]
 
 
+def end_with(end, piece, mark):
+    """Return the end that counts behind one more piece, end being the one ahead of it; None if there is none."""
+    if not piece[2]:
+        return end
+    return end_counted([end_of(piece)] if end is None else [end, end_of(piece)], mark)
+
+
 def end_that_counts(row, mark):
     """Return the end that counts of a row, None if no piece has last."""
     return end_counted([end_of(piece) for piece in row if piece[2]], mark)
@@ -226,8 +233,7 @@ class Reading:
     def _next_moment(self, piece):
         """Return the moment behind the newest piece."""
         end, gap, packet = self._moments[-1]
-        if piece[2]:
-            end = end_counted([end_of(piece)] if end is None else [end, end_of(piece)], self._reader.mark)
+        end = end_with(end, piece, self._reader.mark)
         gap = next_gap(gap, self._holdings)
         # An early reader never reads a second time, and a late one is asked only when told is.
         if self._reader.when == "early" and packet is None and end is not None and end <= gap:

@@ -49,6 +49,11 @@ def turned_number(number):
     return ENTRIES - 1 - number
 
 
+def is_change(entry, number):
+    """Return whether an entry with this number lets another value be read than before."""
+    return entry[0] == "new" and number % 3 != 1
+
+
 def entry_of(table, state, begin, end, value):
     """Return the entry of a state for three signs."""
     return table[state][entry_number(LIES[begin], LIES[end], LIES[value])]

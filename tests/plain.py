@@ -1,10 +1,13 @@
 """Types, rows over one place, and wrong papers, made a second way after the words of the document."""
 
-from fragweave.tables import entry_of
-from tests.helpers import plain_value, sign_of
+from itertools import product
+
+from fragweave.tables import entry_of, told_table
+from tests.helpers import NAMES, SIGNS, plain_value, random_table, sign_of
 
 # Words that papers have, also each in the place of another one.
-WORDS = ("pass", "leave", "serves", "fails", "true", "less", "greater", "from", "never", "covers", "bare")
+WORDS = ("pass", "leave", "serves", "fails", "true", "less", "greater", "from", "never", "covers", "bare", "most",
+         "endless")
 
 
 def pieces_over(place, *, values=3):
@@ -248,3 +251,38 @@ def by_begin(**words):
     """The entries with these words for the begins "less", "equal" and "greater"."""
     return {at: words[side] for number, side in enumerate(("less", "equal", "greater")) if side in words
             for at in range(9 * number, 9 * number + 9)}
+
+
+def plain_entries(table, state):
+    """All entries of a state by their words: (begin, end, value, who, next)."""
+    return [(*words, *entry_of(table, state, *words)) for words in product(SIGNS, SIGNS, SIGNS)]
+
+
+def plain_reached(table, state=0):
+    """The set of the states that come of a state."""
+    reached = {state}
+    left = [state]
+    while left:
+        for *_, following in plain_entries(table, left.pop()):
+            if following not in reached:
+                reached.add(following)
+                left.append(following)
+    return reached
+
+
+def apart_table(source):
+    """A table with states that never come about, each of which leads to others."""
+    table = source.choice([told_table("vote"), told_table("most"), random_table(source, states=3)])
+    many = len(table) + source.randint(1, 6 - len(table))
+    return (*table, *random_table(source, states=many)[len(table):])
+
+
+def many_tables(source, many):
+    """The told tables, and so many of each kind: with an entry changed, drawn, slow, in another form, and more."""
+    told = [told_table(name) for name in NAMES]
+    tables = list(told)
+    for count in range(many):
+        drawn = random_table(source, states=1 + count % 6)
+        tables += [one_entry_changed(source, source.choice(told)), drawn, slow_table(source), apart_table(source),
+                   other_form(source.choice([*told, drawn])), shuffled(source, source.choice(told[:8]), 1 + count % 6)]
+    return tables

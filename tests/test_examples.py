@@ -199,6 +199,48 @@ POINT_19 = (
     """,
 )
 
+POINT_20 = (
+    """
+    >>> from fragweave.settled import distances, settled, sure_at
+    >>> [distances(VOTE), distances(MOST), settled(FIRST), settled(MOST), sure_at(FIRST, ROW, 2), sure_at(LAST, ROW, 2)]
+    [(2, 1), (2, None, 1), (0,), (1,), 2, None]
+    """,
+)
+
+POINT_21 = (
+    """
+    >>> from fragweave.changes import changes_hold, find_changes
+    >>> [find_changes(FIRST)[:2], find_changes(LAST)[0], find_changes(MOST)[1][0], changes_hold(LAST, ("endless", (), ((1, 1, 0),))), changes_hold(LAST, ("endless", (), ((1, 1, 1),)))]
+    [('most', (0,)), 'endless', 1, True, False]
+    """,
+)
+
+POINT_22 = (
+    """
+    >>> from fragweave.merging import alike_states, merged, trimmed
+    >>> THREE = ((("old", 2),) * 27, (("new", 0),) * 27, (("old", 0),) * 27)
+    >>> [alike_states(THREE), merged(THREE) == FIRST, trimmed(THREE) == ((("old", 1),) * 27, (("old", 0),) * 27), len(merged(MOST))]
+    [((0, 2),), True, True, 3]
+    """,
+)
+
+POINT_23 = (
+    """
+    >>> from fragweave.mending import mend_numbers, mends
+    >>> [mends(FIRST, FIRST), mends(FIRST, LAST), mend_numbers(FIRST, FIRST), mends(told_table("least"), told_table("ranked"))]
+    [0, None, ((((0, 0), (0, 0), (0, 0), (0, 0)), 0),), None]
+    """,
+)
+
+POINT_24 = (
+    """
+    >>> from fragweave.orderings import orders_read, weaves_read
+    >>> from fragweave.readers import Reader
+    >>> [orders_read(Reader(FIRST), ROW), weaves_read(Reader(LAST), ROW[:2], ((0, (9,), True),))]
+    [(((1, 2, 8), 1, (0, 1, 2)), ((1, 2, 3), 2, (0, 2, 1)), ((1, 7, 8), 2, (1, 0, 2)), ((1, 7, 3), 1, (2, 1, 0))), (((9,), 2, (0, 0, 1)), ((1,), 1, (1, 0, 0)))]
+    """,
+)
+
 
 class Examples(unittest.TestCase):
     def check_all(self, examples):
@@ -247,6 +289,21 @@ class Examples(unittest.TestCase):
 
     def test_point_19(self):
         self.check_all(POINT_19)
+
+    def test_point_20(self):
+        self.check_all(POINT_20)
+
+    def test_point_21(self):
+        self.check_all(POINT_21)
+
+    def test_point_22(self):
+        self.check_all(POINT_22)
+
+    def test_point_23(self):
+        self.check_all(POINT_23)
+
+    def test_point_24(self):
+        self.check_all(POINT_24)
 
     def test_readme(self):
         failed, tried = doctest.testfile("../README.md")

@@ -29,6 +29,11 @@ INTERFACE = {
     "tidiers": "Tidier",
     "rights": "wrong_row right_from price_of find_right right_holds",
     "covers": "find_cover cover_holds",
+    "settled": "distances settled sure_at",
+    "changes": "find_changes changes_hold",
+    "merging": "alike_states trimmed merged",
+    "mending": "mend_numbers mends",
+    "orderings": "orders_read weaves_read",
 }
 METHODS = {"Reader": "parse table mark when", "Tidier": "put back row passed copy", "Reading": "put back row told owners states copy"}
 
