@@ -241,6 +241,85 @@ POINT_24 = (
     """,
 )
 
+POINT_25 = (
+    """
+    >>> from fragweave.making import mirrored, mirrored_row, then_table
+    >>> [mirrored(BEGINS) == told_table("ends"), mirrored_row(((1, (5, None), True),), 4), then_table(FIRST, 1, LAST) == LAST, len(then_table(FIRST, 3, LAST))]
+    [True, ((1, (None, 5), False),), True, 3]
+    """,
+)
+
+POINT_26 = (
+    """
+    >>> from fragweave.alike import are_alike
+    >>> from fragweave.making import blinded
+    >>> [blinded(BEGINS, "begins") == FIRST, blinded(BEGINS, "ends") == BEGINS, are_alike(VOTE, blinded(VOTE, "begins", "ends"))]
+    [True, True, True]
+    """,
+    """
+    >>> from fragweave.rules import Rule
+    >>> rule = Rule(BEGINS)
+    >>> [rule(ROW, 1), rule[0, "<", "=", "="], ~rule == Rule(told_table("ends")), ROW in rule, ROW[1:] in rule, len(rule), rule == Rule(FIRST)]
+    [2, ('new', 0), True, True, False, 1, False]
+    """,
+)
+
+POINT_27 = (
+    """
+    >>> from fragweave.telling import apart_by, find_packet, groups_of, packet_holds
+    >>> T = (FIRST, LAST, BEGINS, FIRST)
+    >>> [groups_of(T), apart_by(T, ROW), len(find_packet(T)[1]), packet_holds(T, (ROW, ((0, 1, 1),)))]
+    [((0, 3), (1,), (2,)), ((0, 2, 3), (1,)), 5, False]
+    """,
+)
+
+POINT_28 = (
+    """
+    >>> from fragweave.houses import House
+    >>> from fragweave.readers import Reader
+    >>> house = House(Reader(FIRST, when="early"))
+    >>> [house.come("a", (1, (6,), True)), house.come("b", (0, (7, 8), False)), house.come("a", (0, (5,), False)), house.told, house.open_names(), house.pieces_of("b"), House.is_name("a1")]
+    [1, 2, 3, (('a', (5, 6)),), ('b',), ((0, (7, 8), False),), False]
+    """,
+)
+
+POINT_29 = (
+    """
+    >>> from fragweave.houses import House
+    >>> from fragweave.readers import Reader
+    >>> house = House(Reader(LAST), room=2, patience=5)
+    >>> [house.attempt([("come", "a", (0, (5,), True)), ("wait", 5), ("come", "b", (0, (6,), False)), ("wait", 1)]), house.lost, house.open_names(), house.close("b"), house.lost, house.undo(), house.lost]
+    [4, ('a',), ('b',), 5, ('a', 'b'), 4, ('a',)]
+    """,
+    """
+    >>> from fragweave.houses import House
+    >>> from fragweave.readers import Reader
+    >>> House(Reader(LAST)).attempt((("come", "a", (0, (5,), True)), ("close", "b")))
+    raises Rejected(1)
+    """,
+)
+
+POINT_31 = (
+    """
+    >>> from fragweave.houses import StrictHouse
+    >>> from fragweave.readers import Reader
+    >>> house = StrictHouse(Reader(LAST))
+    >>> house.come("a", (0, (5, 6), False)) and house.come("a", (1, (7, 8), True))
+    raises Stranger(1)
+    """,
+)
+
+POINT_32 = (
+    """
+    >>> from fragweave.consoles import Console
+    >>> from fragweave.houses import House
+    >>> from fragweave.readers import Reader
+    >>> console = Console(House(Reader(FIRST)))
+    >>> [console("come a 0:5,6!"), console("read a"), console("close a"), console("told"), console("come a 0:1"), console("row b"), console("wait 05"), console("open ")]
+    ['ok 1', '5,6', 'ok 2', 'a:5,6', 'error Over', 'error NoPacket', 'no line', 'no line']
+    """,
+)
+
 
 class Examples(unittest.TestCase):
     def check_all(self, examples):
@@ -304,6 +383,27 @@ class Examples(unittest.TestCase):
 
     def test_point_24(self):
         self.check_all(POINT_24)
+
+    def test_point_25(self):
+        self.check_all(POINT_25)
+
+    def test_point_26(self):
+        self.check_all(POINT_26)
+
+    def test_point_27(self):
+        self.check_all(POINT_27)
+
+    def test_point_28(self):
+        self.check_all(POINT_28)
+
+    def test_point_29(self):
+        self.check_all(POINT_29)
+
+    def test_point_31(self):
+        self.check_all(POINT_31)
+
+    def test_point_32(self):
+        self.check_all(POINT_32)
 
     def test_readme(self):
         failed, tried = doctest.testfile("../README.md")

@@ -34,8 +34,22 @@ INTERFACE = {
     "merging": "alike_states trimmed merged",
     "mending": "mend_numbers mends",
     "orderings": "orders_read weaves_read",
+    "making": "mirrored mirrored_row renumbered then_table blinded",
+    "rules": "Rule",
+    "telling": "groups_of apart_by find_packet packet_holds",
+    "houses": "House StrictHouse",
+    "consoles": "Console",
 }
-METHODS = {"Reader": "parse table mark when", "Tidier": "put back row passed copy", "Reading": "put back row told owners states copy"}
+METHODS = {
+    "Reader": "__init__ parse table mark when __call__ __eq__ __str__",
+    "Reading": "__init__ put back row told owners states copy __len__ __eq__",
+    "Tidier": "__init__ put back row passed copy __len__",
+    "Rule": "__init__ table then __call__ __getitem__ __contains__ __invert__ __len__ __eq__ __str__ __iter__",
+    "House": "__init__ is_name reader room patience come wait close undo attempt time version told lost open_names pieces_of "
+             "edits copy __getitem__ __contains__ __len__ __eq__ __str__ __iter__",
+    "StrictHouse": "__init__ come copy",
+    "Console": "__init__ execute __call__",
+}
 
 STATEMENTS = (
     ast.Assign, ast.AugAssign, ast.AnnAssign, ast.If, ast.While, ast.For, ast.Return, ast.Break, ast.Continue, ast.Pass,
@@ -44,7 +58,7 @@ STATEMENTS = (
 BUILTINS = set(
     "len range enumerate zip min max sum abs sorted reversed int str bool list tuple dict set isinstance ord repr any all "
     "divmod pow map iter next super property staticmethod classmethod NotImplemented Exception ValueError TypeError "
-    "KeyError IndexError LookupError ZeroDivisionError".split())
+    "KeyError IndexError LookupError ZeroDivisionError type".split())
 DUNDERS = set(
     "init eq repr str len enter exit call iter contains getitem setitem invert neg pos abs bool lt le gt ge ne".split())
 METHODS_OF_VALUES = set(
@@ -233,9 +247,41 @@ class Rules(unittest.TestCase):
                 for part in [one for one in call.args if not isinstance(one, ast.Starred)]:
                     self.assertIsInstance(part, (ast.Name, ast.Constant), (name, call.lineno))
 
+    def test_methods_by_their_signs(self):
+        for name, made in nodes(ast.ClassDef):
+            found = {method.name: method for method in made.body if isinstance(method, ast.FunctionDef)}
+            if "__getitem__" in found:
+                self.assertIsInstance(found["__iter__"].body[-1], ast.Raise, name)
+            for sign in set(found) & {"__getitem__", "__contains__", "__invert__"}:
+                wanted = {"__getitem__": ["self", "at"], "__contains__": ["self", "x"], "__invert__": ["self"]}[sign]
+                self.assertEqual([argument.arg for argument in found[sign].args.args], wanted, name)
+        for name, text in FILES.items():
+            for barred in ("(type)", "Meta", "metaclass=", "_wall", "keys()"):
+                self.assertNotIn(barred, text, name)
+
+    def test_texts_and_lengths(self):
+        for name, function in nodes(ast.FunctionDef):
+            if function.name in ("__str__", "__repr__", "__len__", "__eq__"):
+                self.assertIsInstance(function.body[-1], ast.Return, name)
+                found = [node for node in ast.walk(function) if isinstance(node, (ast.Assign, ast.AugAssign, ast.AnnAssign))]
+                self.assertEqual(found, [], name)
+            for node in [node for node in ast.walk(function) if isinstance(node, ast.Return)]:
+                if function.name in ("__str__", "__repr__"):
+                    self.assertTrue(isinstance(node.value, ast.JoinedStr) or called_name(node.value) in ("str", "repr"), name)
+                if function.name == "__len__":
+                    self.assertEqual(called_name(node.value), "len", name)
+
+    def test_finally(self):
+        for name, node in nodes(ast.Try):
+            for part in [part for row in node.finalbody for part in ast.walk(row) if isinstance(part, ast.stmt)]:
+                self.assertIsInstance(part, (ast.Assign, ast.If), (name, part.lineno))
+            for part in [part for row in node.finalbody for part in ast.walk(row)]:
+                self.assertNotIsInstance(part, (ast.Call, ast.Subscript, ast.BinOp), name)
+
     def test_words(self):
         for name, tree in TREES.items():
             bare = "\n".join(ast.unparse(node) for node in without_docstrings(tree).body)
+            bare = re.sub(r"\btype\((\w+)\)\.__name__", r"\1", bare)
             self.assertEqual(BARRED_WORDS & set(re.findall(r"\w+", bare)), set(), name)
             self.assertTrue(all("%" not in text for text in strings_of(tree)), name)
 

@@ -56,7 +56,9 @@ class Reached(unittest.TestCase):
     def test_what_is_reached(self):
         reached = Reach(TREES).reached
         for key in (("readers", "Reader", "__eq__"), ("alike", None, "are_alike"), ("types", None, "ranked"),
-                    ("readertexts", None, "entry_text"), ("reading", "Reading", "told"), ("places", None, "compared")):
+                    ("readertexts", None, "entry_text"), ("reading", "Reading", "told"), ("places", None, "compared"),
+                    ("rules", "Rule", "__init__"), ("making", None, "mirrored"), ("tables", None, "entry_of"),
+                    ("reading", None, "first_covers"), ("houses", "House", "pieces_of"), ("reading", None, "few_holds")):
             self.assertIn(key, reached)
 
     def check_faults(self, rows, *, wanted):
