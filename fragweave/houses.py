@@ -83,7 +83,8 @@ def behind_ticks(patience, now, ticks):
 def behind_close(reader, now, name):
     """Return what there is behind the close of an open packet."""
     time, told, lost, packets = now
-    packet = packet_read(reader, row_of(now, name)) if reader.when == "late" else None
+    # An early reader reads none: what it could read, it has read when the last piece came, and it is not open.
+    packet = packet_read(reader, row_of(now, name))
     rest = without(packets, [name])
     if packet is None:
         return (time, told, (*lost, name), rest)
@@ -310,7 +311,7 @@ class House:
         return f"{len(self._now[3])} open, {len(self.told)} read, {len(self.lost)} lost, {len(self._past)} edits"
 
     def __iter__(self):
-        raise TypeError("a house has packets by their names, and no order of them")
+        raise TypeError("a house is not looped over")
 
 
 class StrictHouse(House):

@@ -64,4 +64,4 @@ class Rule:
         return str(table_text(self._table))
 
     def __iter__(self):
-        raise TypeError("a Rule has entries by their keys, and no order of them")
+        raise TypeError("a Rule is not looped over")

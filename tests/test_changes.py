@@ -75,6 +75,13 @@ def falling_table(many):
     return table_of(*states, {})
 
 
+def drawn_falling_table(source):
+    """A table with six states in which each change leads to a later state, at most times past some others."""
+    states = [{at: f"{source.choice('oon')}{source.randint(state + 1, 5)}" for at in source.sample(range(27), source.randint(1, 5))}
+              for state in range(5)]
+    return table_of(*states, {})
+
+
 class FindChanges(unittest.TestCase):
     def check_paper(self, table):
         paper = find_changes(table)
@@ -102,6 +109,13 @@ class FindChanges(unittest.TestCase):
         for many in range(6):
             paper = self.check_paper(falling_table(many))
             self.assertEqual(paper[1], tuple(range(many, -1, -1)))
+
+    def test_the_most_changes_of_many_ways(self):
+        source = random.Random(24)
+        numbers = [self.check_paper(drawn_falling_table(source))[1][0] for _ in range(60)]
+        self.assertLessEqual({0, 1, 2, 3}, set(numbers))
+        nearest_is_last = table_of({0: "n3", 2: "n1"}, {0: "n3", 3: "n2"}, {0: "n3"}, {})
+        self.assertEqual(self.check_paper(nearest_is_last)[1], (3, 2, 1, 0))
 
     def test_changes_behind_slow_states(self):
         table = table_of({at: "o1" for at in range(5)}, {7: "o2"}, {3: "n3"}, {4: "n4"}, {9: "o5"}, {26: "n5", 1: "n5"})
