@@ -92,7 +92,8 @@ def states_along(table, way, state):
     """Return the list of the states ahead of each step of a way from a state on, and behind it."""
     states = [state]
     for step in way:
-        _, following = table[states[-1]][entry_number(*step)]
+        number = entry_number(*step)
+        _, following = table[states[-1]][number]
         states.append(following)
     return states
 

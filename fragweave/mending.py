@@ -40,7 +40,8 @@ class PairGraph:
                 who, following = entries[number + lie]
                 other_who, other_following = other_entries[other_number + other_lie]
                 words = (who, other_who)
-                found[((following, other_following), *shapes[words], worths[words])] = True
+                behind = ((following, other_following), *shapes[words], worths[words])
+                found[behind] = True
         return list(found)
 
     def whole(self):

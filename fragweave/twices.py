@@ -57,7 +57,8 @@ def watches(table, rows):
 def entry_of_twin(table, watch):
     """Return the entry for the twin that comes again."""
     state, letter = watch
-    return table[state][entry_number(*letter)]
+    number = entry_number(*letter)
+    return table[state][number]
 
 
 def twin_node(table, watch):

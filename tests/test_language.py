@@ -73,6 +73,13 @@ BARRED_NAMES = set(
 BARRED_WORDS = set(
     "type typing typing_extensions enum Enum IntEnum StrEnum Flag IntFlag Generic Protocol ABC ABCMeta namedtuple "
     "NamedTuple TypedDict TYPE_CHECKING abstractmethod".split())
+# Indexes with a star, and stars that stand ahead of an index, behind it, or in no index at all.
+STARRED_INDEXES = (
+    "a[*b]", "a[(*b, 1)]", "a[((1, 2), *b[c], 3)]", "a[b(*c)]", "a[b][c(*b)]", "a[b(*c)][b]", "a[b.c(1, *c)]", "a[[1, *b][0]:]",
+    "a[:b(*c)]", "a[b(**c)]", "a[b({**c})]", "a[(1, (2, (*b, 3)))]", "a[[b for b, *rest in c][0]]", "a[1, *b]")
+OTHER_STARS = (
+    "d = (*b[c], 1)\na[d] = True", "n = b(*c)\na[n] = 1", "[*a[1:], b[2]]", "a(*b)[c]", "(*a, 1)[0]", "{**a, 1: b[c]}",
+    "a[b * c]", "a[b ** 2]", "first, *rest = a[b]", "[*a][b]", "def told(*rest):\n    return rest[0]")
 # "_" is there only once something was shown by Python's prompt, or by a doctest.
 NAMES_OF_PYTHON = set(dir(builtins)) - {"_"}
 LIBRARY = ("heapq", "math", "itertools", "collections")
@@ -247,6 +254,18 @@ class Rules(unittest.TestCase):
                 for part in [one for one in call.args if not isinstance(one, ast.Starred)]:
                     self.assertIsInstance(part, (ast.Name, ast.Constant), (name, call.lineno))
 
+    def test_no_star_in_an_index(self):
+        for name, tree in TREES.items():
+            self.assertEqual(stars_in_indexes(tree), [], name)
+
+    def test_stars_in_indexes_are_found(self):
+        for text in STARRED_INDEXES:
+            for row in (text, f"{text} = 1", f"del {text}", f"def told(a, b, c):\n    return [{text}]",
+                        f"class Box:\n    def told(self, a, b, c):\n        {text} += 1"):
+                self.assertEqual(len(stars_in_indexes(ast.parse(row))), 1, row)
+        for text in OTHER_STARS:
+            self.assertEqual(stars_in_indexes(ast.parse(text)), [], text)
+
     def test_methods_by_their_signs(self):
         for name, made in nodes(ast.ClassDef):
             found = {method.name: method for method in made.body if isinstance(method, ast.FunctionDef)}
@@ -284,6 +303,18 @@ class Rules(unittest.TestCase):
             bare = re.sub(r"\btype\((\w+)\)\.__name__", r"\1", bare)
             self.assertEqual(BARRED_WORDS & set(re.findall(r"\w+", bare)), set(), name)
             self.assertTrue(all("%" not in text for text in strings_of(tree)), name)
+
+
+def is_star(node):
+    """Whether a node has a star, or two, ahead of what is spread."""
+    return (isinstance(node, ast.Starred) or isinstance(node, ast.keyword) and node.arg is None
+            or isinstance(node, ast.Dict) and None in node.keys)
+
+
+def stars_in_indexes(tree):
+    """The lines of the subscripts with a star anywhere within their brackets."""
+    return [node.lineno for node in ast.walk(tree) if isinstance(node, ast.Subscript)
+            and any(is_star(part) for part in ast.walk(node.slice))]
 
 
 def without_docstrings(tree):
